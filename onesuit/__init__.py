@@ -1,0 +1,1 @@
+"""One suit, two hands, and what can't be seen."""
