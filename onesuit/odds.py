@@ -3,7 +3,9 @@
 from onesuit.table import Table
 
 # For each call, by its place: how many plain numbers it has, and how many rows.
-FORMS = ((4, 3), (0, 0), (0, 0), (0, 0), (0, 0), (2, 0), (0, 0))
+FORMS = (
+    (4, 3), (0, 0), (0, 0), (0, 0), (0, 0), (2, 0), (0, 0), (1, 0), (0, 0), (1, 0), (0, 0), (1, 0), (0, 1),
+)
 
 
 def read_rows(calls, start, number):
@@ -36,7 +38,19 @@ def answer(table, place, plain, rows):
         return table.tell_leads()
     if place == 5:
         return table.lead_card(plain[0], plain[1])
-    return table.tell_seconds()
+    if place == 6:
+        return table.tell_seconds()
+    if place == 7:
+        return table.play_second(plain[0])
+    if place == 8:
+        return table.tell_thirds()
+    if place == 9:
+        return table.play_third(plain[0])
+    if place == 10:
+        return table.tell_lasts()
+    if place == 11:
+        return table.play_last(plain[0])
+    return table.tell_blind(rows[0])
 
 
 def answers(calls):

@@ -1,21 +1,7 @@
 """The best play: the greatest number of ways in which a play makes it."""
 
 from onesuit.splits import after_trick, by_last, by_second, ways_of, without
-
-
-def thirds_of(hands, leader):
-    """The cards that the hand beside the leading one may play, falling: 0 alone, if it has none."""
-    cards = hands[1 - leader]
-    if len(cards) == 0:
-        return (0,)
-    return cards
-
-
-def need_after(need, ours, theirs):
-    """What is still needed behind a trick in which these are each side's higher cards."""
-    if ours > theirs and need > 0:
-        return need - 1
-    return need
+from onesuit.trick import need_after, thirds_of, tricks_won
 
 
 class Search:
@@ -65,9 +51,8 @@ class Search:
     def after_third(self, need, hands, splits, leader, led, second, third):
         """The odds when our two cards and the one between them have been played."""
         left = without(hands, led, third)
-        ours = max(led, third)
         odds = 0
-        for last, group in by_last(splits, leader, ours, second).items():
-            still = need_after(need, ours, max(second, last))
+        for last, group in by_last(splits, leader, max(led, third), second).items():
+            still = need_after(need, tricks_won(led, second, third, last))
             odds += self.at_lead(still, left, after_trick(group, second, last))
         return odds

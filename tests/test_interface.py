@@ -1,9 +1,12 @@
 """answers(calls): numbers in, numbers out, and nothing else touched or kept."""
 
 import unittest
+from math import comb
 
 from onesuit.odds import answers
-from tests.helper import HANDS, HUGE, LEADS, ODDS, SECONDS, WAYS, ask, last_of, lead, suit
+from tests.helper import (
+    HANDS, HUGE, LASTS, LEADS, ODDS, SECONDS, THIRDS, WAYS, ask, blind, last, lead, second, suit, third,
+)
 
 
 class Untouchable(list):
@@ -19,6 +22,12 @@ class Untouchable(list):
 LINE = sum([
     ODDS, suit(need=2, hand0=[11, 13], hand1=[1, 2], missing=[5, 12]), HANDS, WAYS, ODDS, LEADS, SECONDS,
     lead(1, 13), lead(1, 14), lead(1, 1), SECONDS, ODDS, LEADS, suit(hand0=[3, 3]), HANDS,
+], [])
+# All thirteen calls, two of them with a row that is refused.
+TRICK = sum([
+    suit(need=2, hand0=[11, 13], hand1=[1, 2], missing=[5, 12]), blind(0, 13, 1, 0, 11, 2), blind(1, 2), blind(),
+    lead(1, 1), SECONDS, second(2), second(5), ODDS, THIRDS, third(1), third(11), LASTS, HANDS, last(13), last(0),
+    WAYS, LEADS, blind(0, 13, 2), suit(p=14, hand0=[7, 7]), HANDS,
 ], [])
 
 
@@ -42,20 +51,52 @@ class Interface(unittest.TestCase):
             9, 0, 2, 2, 2, 13, 11, 2, 2, 1,
         ])
 
+    def test_all_calls_number_by_number(self):
+        self.assertEqual(answers(TRICK), [
+            3, 0, 4, 10400600,
+            2, 0, 5408312,
+            1, -1,
+            2, 0, 0,
+            1, 0,
+            7, 0, 12, 2704156, 5, 5200300, 0, 2496144,
+            1, -6,
+            1, 0,
+            3, 0, 2704156, 5200300,
+            5, 0, 13, 2704156, 11, 2496144,
+            1, -6,
+            1, 0,
+            5, 0, 12, 2704156, 0, 2496144,
+            9, 0, 4, 2, 2, 13, 11, 2, 2, 1,
+            1, -6,
+            2, 0, 1,
+            5, 0, 2496144, 0, 1, 12,
+            7, 0, 0, 13, 2496144, 1, 2, 2496144,
+            2, 0, 2496144,
+            1, -1,
+            7, 0, 1, 1, 1, 13, 1, 2,
+        ])
+
     def test_a_list_of_whole_numbers(self):
-        told = answers(LINE)
-        self.assertIs(type(told), list)
-        self.assertEqual({type(number) for number in told}, {int})
+        for line in (LINE, TRICK):
+            told = answers(line)
+            self.assertIs(type(told), list)
+            self.assertEqual({type(number) for number in told}, {int})
 
     def test_what_is_handed_in_is_not_changed(self):
-        line = Untouchable(LINE)
-        answers(line)
-        self.assertEqual(list(line), LINE)
+        for line in (LINE, TRICK):
+            held = Untouchable(line)
+            answers(held)
+            self.assertEqual(list(held), line)
 
     def test_nothing_is_kept(self):
         first = answers(LINE)
+        trick = answers(TRICK)
         self.assertEqual(answers(LINE), first)
-        for call in (ODDS, WAYS, HANDS, LEADS, SECONDS, lead(0, 13)):
+        self.assertEqual(answers(TRICK), trick)
+        for call in (
+            ODDS, WAYS, HANDS, LEADS, SECONDS, lead(0, 13), second(5), THIRDS, third(11), LASTS, last(0), blind(),
+            blind(0, 13, 2),
+        ):
             self.assertEqual(answers(call), [1, -2])
 
     def test_what_is_given_back_is_the_callers_own(self):
@@ -67,6 +108,9 @@ class Interface(unittest.TestCase):
     def test_long_rows_are_read_to_their_end(self):
         rows = {"hand0": [HUGE] * 100, "hand1": [-HUGE] * 100, "missing": [0] * 100}
         self.assertEqual(ask(suit(**rows), HANDS, suit(hand1=[3], missing=[1] * 100), HANDS), [[-1], [-2]] * 2)
+        told = suit(need=0, p=1, q=1)
+        self.assertEqual(ask(told, blind(*[12] * 100), blind(*[HUGE] * 12), blind(), HANDS)[1:],
+                         [[-1], [-1], [0, 2], [0, 1, 0, 0, 0]])
 
     def test_the_longest_line(self):
         told = suit(need=3, hand0=[11, 8, 5, 2], hand1=[12, 9, 6], missing=[3, 4, 7, 10, 13])
@@ -89,21 +133,23 @@ class Interface(unittest.TestCase):
         for at in range(0, len(split), 3):
             self.assertEqual(split[at + 1][1], max(split[at + 2][3::3]))
 
+    def test_most_searches_in_tricks(self):
+        told = suit(need=3, cover=1, hand0=[11, 8, 5, 2], hand1=[12, 9, 6], missing=[3, 4, 7, 10, 13])
+        calls = [told, ODDS, LEADS, lead(0, 5), ODDS, second(3), ODDS, THIRDS, third(9), ODDS]
+        split = ask(*calls * 5)
+        self.assertEqual(split[:10] * 5, split)
+        self.assertEqual(split[1][1], max(split[2][3::3]))
+        self.assertEqual(split[6][1], max(split[7][2::2]))
+        self.assertEqual(split[9][1], split[7][2 * split[7][1::2].index(9) + 2])
 
-class Turns(unittest.TestCase):
-    def test_odds_ways_and_hands_are_for_all_turns(self):
-        told = suit(need=1, hand0=[4], missing=[3])
-        for look in (ODDS, WAYS, HANDS):
-            self.assertEqual(last_of(look), [-2])
-            self.assertEqual(last_of(told, look)[0], 0)
-            self.assertEqual(last_of(told, lead(0, 4), look)[0], 0)
-
-    def test_looking_changes_nothing(self):
-        told = suit(need=2, hand0=[13, 11], hand1=[2, 1], missing=[12, 5, 4])
-        looks = (ODDS, WAYS, HANDS, LEADS)
-        split = ask(told, *looks, *looks, lead(1, 2), *looks, SECONDS, *looks, SECONDS)
-        self.assertEqual(split[1:5], split[5:9])
-        self.assertEqual(split[10:15], split[15:20])
+    def test_as_many_plans_and_tricks_as_there_can_be(self):
+        told = suit(need=1, hand0=[13, 8, 5, 2], hand1=[12, 9, 6], missing=[3, 4, 7, 10, 11])
+        plan = blind(0, 2, 12, 1, 9, 13, 0, 5, 6, 0, 8, 0)
+        self.assertEqual(ask(told, *[plan] * 399)[1:], [[0, 10400600]] * 399)
+        trick = [lead(0, 13), second(0), third(12), last(3), blind()]
+        split = ask(*([told] + trick) * 66)
+        self.assertEqual(split, split[:6] * 66)
+        self.assertEqual(split[4:6], [[0, 1], [0, comb(21, 13)]])
 
 
 if __name__ == "__main__":

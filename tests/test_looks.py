@@ -2,7 +2,7 @@
 
 import unittest
 
-from tests.helper import HANDS, WAYS, all_deals, last_of, lead, suit
+from tests.helper import HANDS, WAYS, all_deals, last, last_of, lead, second, suit, third
 
 
 class Ways(unittest.TestCase):
@@ -53,6 +53,25 @@ class Ways(unittest.TestCase):
         told = suit(hand0=[13, 11], hand1=[3], missing=[12, 10, 4])
         self.assertEqual(last_of(told, lead(0, 11), WAYS), last_of(told, WAYS))
 
+    def test_cards_just_played_are_still_told(self):
+        calls = [suit(p=2, q=2, hand0=[13, 11], hand1=[3, 1], missing=[12, 10, 4]), lead(0, 11), second(4), third(1)]
+        # West has the four, and it is the lowest there.
+        wanted = [0, 1, 2, 12, 4, 1, 10, 1, 2, 10, 4, 1, 12, 1, 1, 4, 2, 12, 10]
+        self.assertEqual(last_of(*calls[:3], WAYS), wanted)
+        self.assertEqual(last_of(*calls, WAYS), wanted)
+        self.assertEqual(last_of(*calls, last(12), WAYS), [0, 1, 1, 10, 0, 1, 0, 1, 10])
+        self.assertEqual(last_of(*calls, last(10), WAYS), [0, 1, 1, 12, 0])
+
+    def test_a_split_keeps_its_ways(self):
+        calls = [suit(p=5, q=5, hand0=[13], hand1=[1], missing=[12, 4]), lead(0, 13), second(4), third(1)]
+        self.assertEqual(last_of(*calls, WAYS), [0, 56, 2, 12, 4, 0, 70, 1, 4, 1, 12])
+        self.assertEqual(last_of(*calls, last(0), WAYS), [0, 56, 1, 12, 0])
+        self.assertEqual(last_of(*calls, last(12), WAYS), [0, 70, 0, 0])
+
+    def test_in_order_behind_a_trick(self):
+        calls = [suit(p=3, q=3, hand0=[13], missing=[12, 9, 6, 2]), lead(0, 13), second(2), third(0), last(6)]
+        self.assertEqual(last_of(*calls, WAYS), [0, 1, 2, 12, 9, 0, 2, 1, 12, 1, 9, 2, 1, 9, 1, 12, 1, 0, 2, 12, 9])
+
 
 class Hands(unittest.TestCase):
     def test_no_suit(self):
@@ -71,6 +90,12 @@ class Hands(unittest.TestCase):
         told = suit(need=2, hand0=[12, 13], hand1=[1, 3])
         self.assertEqual(last_of(told, lead(0, 13), HANDS), [0, 2, 2, 2, 13, 12, 2, 3, 1])
         self.assertEqual(last_of(told, lead(1, 1), HANDS), [0, 2, 2, 2, 13, 12, 2, 3, 1])
+
+    def test_cards_just_played_are_still_told(self):
+        calls = [suit(need=2, hand0=[12, 13], hand1=[1, 3], missing=[2]), lead(0, 13), second(2), third(3), last(0)]
+        self.assertEqual(last_of(*calls[:3], HANDS), [0, 3, 2, 2, 13, 12, 2, 3, 1])
+        self.assertEqual(last_of(*calls[:4], HANDS), [0, 4, 2, 2, 13, 12, 2, 3, 1])
+        self.assertEqual(last_of(*calls, HANDS), [0, 1, 1, 1, 12, 1, 1])
 
 
 if __name__ == "__main__":

@@ -1,10 +1,8 @@
-"""Call 1: the best play. Small suits worked out by hand, many others against the sets of all plays."""
+"""Call 1: the best play, in small suits worked out by hand."""
 
-import random
 import unittest
-from math import comb
 
-from tests.helper import LEADS, ODDS, SECONDS, Oracle, ask, last_of, lead, suit
+from tests.helper import ODDS, last, last_of, lead, second, suit, third
 
 
 def odds(**told):
@@ -86,45 +84,29 @@ class ByHand(unittest.TestCase):
         self.assertEqual(last_of(suit(**rows), lead(1, 2), ODDS), [0, 1, 1])
         self.assertEqual(last_of(suit(**rows), lead(1, 13), ODDS), [0, 0, 1])
 
+    def test_each_moment_of_a_trick(self):
+        rows = {"need": 2, "hand0": [13, 11], "hand1": [2, 1], "missing": [12, 5], "p": 2, "q": 2}
+        # West's cards are none (1 way), the five (2), the king (2) or both (1).
+        calls = [suit(**rows), lead(1, 2), second(5), third(11), last(0)]
+        told = [last_of(*calls[:length], ODDS) for length in range(1, 6)]
+        self.assertEqual(told, [[0, 4, 6], [0, 4, 6], [0, 2, 3], [0, 1, 3], [0, 1, 1]])
 
-def some_suit(source, ours, missing):
-    """A suit that isn't refused, with so many cards."""
-    first = source.randint(max(0, ours - 4), min(4, ours))
-    cards = source.sample(range(1, 14), ours + missing)
-    p = source.randint(0, 13)
-    q = source.randint(max(0, missing - p), 13)
-    rows = (cards[:first], cards[first:ours], cards[ours:])
-    return (source.randint(0, 4), source.randint(0, 1), p, q) + rows
+    def test_need_0_is_all_ways_at_each_moment(self):
+        rows = {"need": 0, "hand0": [2], "hand1": [1], "missing": [12, 5], "p": 2, "q": 2}
+        calls = [suit(**rows), lead(0, 2), second(5), third(1), last(12)]
+        told = [last_of(*calls[:length], ODDS) for length in range(1, 6)]
+        self.assertEqual(told, [[0, 6, 6], [0, 6, 6], [0, 3, 3], [0, 3, 3], [0, 2, 2]])
 
-
-class AgainstAllPlays(unittest.TestCase):
-    def check(self, told):
-        oracle = Oracle(*told)
-        every = comb(told[2] + told[3], told[2])
-        leads = oracle.leads()
-        calls = [suit(*told), ODDS, LEADS]
-        wanted = [[0, len(oracle.deals), every], [0, oracle.odds(), every], [0] + leads]
-        for at in range(0, len(leads), 3):
-            calls += [suit(*told), lead(leads[at], leads[at + 1]), ODDS, SECONDS]
-            seconds = [0] + oracle.seconds(leads[at], leads[at + 1])
-            wanted += [wanted[0], [0], [0, leads[at + 2], every], seconds]
-        with self.subTest(suit=told):
-            self.assertEqual(ask(*calls), wanted)
-
-    def test_small_suits(self):
-        source = random.Random(1)
-        for _ in range(200):
-            self.check(some_suit(source, source.randint(0, 5), source.randint(0, 3)))
-
-    def test_all_sizes(self):
-        source = random.Random(2)
-        for _ in range(100):
-            self.check(some_suit(source, source.randint(0, 7), source.randint(0, 5)))
-
-    def test_the_largest(self):
-        source = random.Random(3)
-        for _ in range(12):
-            self.check(some_suit(source, 7, 5))
+    def test_the_third_card_binds(self):
+        rows = {"need": 2, "hand0": [13, 12], "hand1": [3, 2], "missing": [5, 4], "p": 1, "q": 1}
+        self.assertEqual(last_of(suit(**rows), lead(0, 12), second(5), ODDS), [0, 1, 1])
+        rows = {"need": 2, "hand0": [12, 2], "hand1": [13, 3], "missing": [5, 4], "p": 1, "q": 1}
+        self.assertEqual(last_of(suit(**rows), lead(0, 12), second(5), ODDS), [0, 1, 1])
+        self.assertEqual(last_of(suit(**rows), lead(0, 12), second(5), third(13), ODDS), [0, 1, 1])
+        rows = {"need": 2, "hand0": [12, 2], "hand1": [13, 3], "missing": [5, 4], "p": 2, "q": 0}
+        self.assertEqual(last_of(suit(**rows), lead(0, 12), second(4), ODDS), [0, 1, 1])
+        self.assertEqual(last_of(suit(**rows), lead(0, 12), second(4), third(13), ODDS), [0, 0, 1])
+        self.assertEqual(last_of(suit(**rows), lead(0, 12), second(4), third(3), ODDS), [0, 1, 1])
 
 
 if __name__ == "__main__":
